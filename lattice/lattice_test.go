@@ -10,6 +10,7 @@ import (
 	"testing"
 
 	"plexus/api"
+	"plexus/sample"
 )
 
 // Descriptions that the tests are built from.
@@ -22,25 +23,12 @@ var (
 	low      = api.Lattice{Kind: api.Max, Lo: 3, Hi: 2}
 )
 
-func bounds(kind int, lo, hi int64) api.Lattice { return api.Lattice{Kind: kind, Lo: lo, Hi: hi} }
-
-func words(kind int, list ...string) api.Lattice { return api.Lattice{Kind: kind, Names: list} }
-
-func mapOf(part api.Lattice, list ...string) api.Lattice {
-	return api.Lattice{Kind: api.Map, Names: list, Parts: []api.Lattice{part}}
-}
-
-func lex(first, second api.Lattice) api.Lattice {
-	return api.Lattice{Kind: api.Lex, Parts: []api.Lattice{first, second}}
-}
+// Short names for what the tests are built with.
+var bounds, words, mapOf, lex, closed = sample.Bounds, sample.Words, sample.MapOf, sample.Lex, sample.Closed
 
 // product has the fields f0, f1 and so on.
 func product(parts ...api.Lattice) api.Lattice {
 	return api.Lattice{Kind: api.Product, Names: numbered("f", len(parts)), Parts: parts}
-}
-
-func closed(list []string, rules ...api.Rule) api.Lattice {
-	return api.Lattice{Kind: api.Closed, Names: list, Rules: rules}
 }
 
 // rule has the last name as its conclusion.

@@ -11,13 +11,11 @@ import (
 	"testing"
 
 	"plexus/api"
+	"plexus/sample"
 )
 
 // invalid are descriptions that are not valid.
-var invalid = []api.Lattice{
-	{}, {Kind: 11}, {Kind: -1}, bounds(api.Max, 3, 2), words(api.Set, "b", "a"), words(api.Flat, "A"), {Kind: api.Map}, {Kind: api.Product}, {Kind: api.Lex, Parts: []api.Lattice{{Kind: api.Flag}}}, {Kind: api.Closed},
-	lex(set, flag), mapOf(bounds(api.Min, 1, 0)), product(flag, api.Lattice{}), {Kind: api.Product, Names: []string{"a", "b"}, Parts: []api.Lattice{flag}}, mapOf(mapOf(mapOf(mapOf(mapOf(mapOf(flag)))))), closed([]string{"a"}, api.Rule{If: []string{"a"}, Then: "b"}), {Kind: api.Flag, Lo: 1},
-}
+var invalid = sample.Invalid()
 
 // TestValidForms covers P10.1 for all small values and finite lattices.
 func TestValidForms(t *testing.T) {
@@ -114,8 +112,9 @@ func TestValidRegisters(t *testing.T) {
 // TestBoundsOfFinite covers P10.2: the least and the greatest of all elements.
 func TestBoundsOfFinite(t *testing.T) {
 	for _, l := range finite() {
-		all, lowest := elements(l), least(l)
-		greatest := extreme(all, func(a, b api.Value) bool { return below(l, b, a) })[0]
+		table := sample.NewTable(l)
+		all, lowest := table.All, least(l)
+		greatest := all[table.Lower()]
 		if v, e := Bottom(l); e != api.OK || !same(v, lowest) || !Valid(l, v) {
 			t.Errorf("Bottom(%v): %v, %d", l, v, e)
 		}
@@ -297,7 +296,7 @@ func TestForms(t *testing.T) {
 func TestCodeOfFinite(t *testing.T) {
 	const alphabet = "\x00\x01\x02\x03\x04ab\x80"
 	var short []string
-	for _, b := range lists([]byte(alphabet), 5) {
+	for _, b := range sample.Lists([]byte(alphabet), 5) {
 		short = append(short, string(b))
 	}
 	for _, l := range finite() {
@@ -498,16 +497,8 @@ func TestSharesNothing(t *testing.T) {
 		return []api.Value{top, least, pair, first, second}
 	}
 	results, others := run(), run()
-	from := 0
-	for i := range results {
-		from = spread(&results[i], from)
-	}
-	seen := map[string]bool{}
-	for _, v := range results {
-		collect(v, seen)
-	}
-	if len(seen) != from {
-		t.Errorf("results share memory: %d different places of %d", len(seen), from)
+	if !sample.Overwrite(results) {
+		t.Errorf("results share memory: %v", results)
 	}
 	if again := run(); !reflect.DeepEqual(again, others) {
 		t.Errorf("a result was modified: %v", again)
@@ -517,44 +508,5 @@ func TestSharesNothing(t *testing.T) {
 	}
 	if s, e := Text(register, clocked); e != api.OK || s != "[a@1:1.2:2 | b@3:1]" {
 		t.Errorf("an argument was modified: %v", clocked)
-	}
-}
-
-// spread writes content of its own into each place of the slices in a value, and returns the next number.
-func spread(v *api.Value, from int) int {
-	for i := range v.Names {
-		v.Names[i] = strconv.Itoa(from)
-		from++
-	}
-	for i := range v.Entries {
-		v.Entries[i].Name = strconv.Itoa(from)
-		from++
-		for k := range v.Entries[i].Clock {
-			v.Entries[i].Clock[k].N = int64(from)
-			from++
-		}
-	}
-	for i := range v.Parts {
-		v.Parts[i].N = int64(from)
-		from = spread(&v.Parts[i], from+1)
-	}
-	_, _, _ = append(v.Names, "appended"), append(v.Parts, number(-1)), append(v.Entries, api.Entry{})
-	return from
-}
-
-// collect adds what spread has written.
-func collect(v api.Value, seen map[string]bool) {
-	for _, s := range v.Names {
-		seen[s] = true
-	}
-	for _, e := range v.Entries {
-		seen[e.Name] = true
-		for _, t := range e.Clock {
-			seen[strconv.FormatInt(t.N, 10)] = true
-		}
-	}
-	for _, part := range v.Parts {
-		seen[strconv.FormatInt(part.N, 10)] = true
-		collect(part, seen)
 	}
 }
