@@ -81,8 +81,11 @@ type Table struct {
 }
 
 // NewTable returns the table of a valid description.
-func NewTable(l api.Lattice) *Table {
-	t := &Table{Lattice: l, All: Elements(l)}
+func NewTable(l api.Lattice) *Table { return TableOf(l, Elements(l)) }
+
+// TableOf returns the table of a valid description, with all elements in an order of their own.
+func TableOf(l api.Lattice, all []api.Value) *Table {
+	t := &Table{Lattice: l, All: all}
 	for _, a := range t.All {
 		var row []bool
 		for _, b := range t.All {
