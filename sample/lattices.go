@@ -43,3 +43,13 @@ func Invalid() []api.Lattice {
 		MapOf(Bounds(api.Min, 1, 0)), Product(flag, api.Lattice{}), {Kind: api.Product, Names: []string{"a", "b"}, Parts: []api.Lattice{flag}}, deep, Closed([]string{"a"}, api.Rule{If: []string{"a"}, Then: "b"}), {Kind: api.Register, Names: []string{"a"}}, Product(api.Lattice{Kind: api.Register}, api.Lattice{}),
 	}
 }
+
+// Objects returns descriptions of objects for a Maker. Those in front have parts of all kinds.
+func Objects() []api.Lattice {
+	flag, set, flat, register := api.Lattice{Kind: api.Flag}, api.Lattice{Kind: api.Set}, api.Lattice{Kind: api.Flat}, api.Lattice{Kind: api.Register}
+	closed := Closed([]string{"a", "b", "c"}, api.Rule{If: []string{"a", "b"}, Then: "c"})
+	large := api.Lattice{Kind: api.Product, Names: []string{"c", "a", "s", "if", "p"}, Parts: []api.Lattice{Bounds(api.Max, 0, 9), MapOf(set), register, MapOf(Bounds(api.Min, -3, 3), "x", "y"), Lex(flag, Product(flat, closed, MapOf(MapOf(flag))))}}
+	small := Product(MapOf(Lex(Bounds(api.Min, 0, 9), flat)), register, Bounds(api.Max, -1, 1), closed)
+	list := []api.Lattice{large, large, large, small, MapOf(small, "k"), Lex(flag, small), MapOf(Lex(Lex(flag, Bounds(api.Max, 0, 5)), register)), Product(small, small, set)}
+	return append(append(list, Finite()...), Nested()...)
+}

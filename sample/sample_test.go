@@ -1,6 +1,7 @@
 package sample_test
 
 import (
+	"math/rand"
 	"testing"
 
 	"plexus/api"
@@ -44,6 +45,30 @@ func TestElements(t *testing.T) {
 	} {
 		if n := len(sample.Elements(c.l)); n != c.want {
 			t.Errorf("case %d: %d elements", i, n)
+		}
+	}
+}
+
+// TestRandom checks that random elements are elements, and that several of them occur.
+func TestRandom(t *testing.T) {
+	source := rand.New(rand.NewSource(1))
+	for _, l := range sample.Objects() {
+		codes := map[string]bool{}
+		for range 500 {
+			v := sample.Element(source.Intn, l)
+			b, e := value.Encode(l, v)
+			if e != api.OK {
+				t.Fatalf("%v in %v: %d", v, l, e)
+			}
+			codes[string(b)] = true
+		}
+		// Of flat there are four elements, but many of most others that are not finite.
+		least := 4
+		if lattice.Finite(l) {
+			least = min(8, len(sample.Elements(l)))
+		}
+		if len(codes) < least {
+			t.Errorf("only %d elements of %v", len(codes), l)
 		}
 	}
 }

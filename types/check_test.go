@@ -116,7 +116,7 @@ func TestAnyNames(t *testing.T) {
 
 // declarations makes a random program without faults, with its checked form. Lattices are declared for some of the descriptions.
 func declarations(source *rand.Rand) (api.Node, api.Program) {
-	all := descriptions()
+	all := sample.Objects()
 	n := api.Node{Kind: api.NodeProgram}
 	var p api.Program
 	order := source.Perm(26)
@@ -138,19 +138,19 @@ func declarations(source *rand.Rand) (api.Node, api.Program) {
 		n.Kids = append(n.Kids, api.Node{Kind: api.NodeObject, Text: o.Name, Kids: []api.Node{tree}})
 		for range source.Intn(4) {
 			on := p.Objects[source.Intn(len(p.Objects))]
-			m := newMaker(source, on.Lattice)
-			f := api.Function{Name: fresh(), On: on.Name, Params: m.params, Result: source.Intn(5)}
+			m := sample.NewMaker(source.Intn, on.Lattice)
+			f := api.Function{Name: fresh(), On: on.Name, Params: m.Params, Result: source.Intn(5)}
 			want, kind := of(on.Lattice), api.NodeUpdate
 			if f.Result > 0 {
 				want, kind = api.Type{Sort: f.Result}, api.NodeQuery
 			}
-			x := m.make(want, sure, source.Intn(4))
-			f.Body = x.e
+			x := m.Make(want, sample.Sure, source.Intn(4))
+			f.Body = x.Expr
 			d := api.Node{Kind: kind, Text: f.Name, N: int64(f.Result)}
 			for _, param := range f.Params {
 				d.Kids = append(d.Kids, api.Node{Kind: api.NodeParam, Text: param.Name, N: int64(param.Sort)})
 			}
-			d.Kids = append(d.Kids, api.Node{Kind: api.NodeName, Text: on.Name}, x.n)
+			d.Kids = append(d.Kids, api.Node{Kind: api.NodeName, Text: on.Name}, x.Tree)
 			n.Kids = append(n.Kids, d)
 			if f.Result > 0 {
 				p.Queries = append(p.Queries, f)

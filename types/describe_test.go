@@ -131,7 +131,7 @@ func treeOf(l api.Lattice, source *rand.Rand) api.Node {
 func TestAllLattices(t *testing.T) {
 	source := rand.New(rand.NewSource(6))
 	for range 5 {
-		for _, l := range descriptions() {
+		for _, l := range sample.Objects() {
 			n := treeOf(l, source)
 			if got, fault := types.Lattice(nil, n); fault != (api.Fault{}) || !lattice.Equal(got, l) {
 				t.Fatalf("%v: %v, %v; not %v", n, got, fault, l)

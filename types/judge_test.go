@@ -4,6 +4,7 @@ import (
 	"slices"
 
 	"plexus/api"
+	"plexus/sample"
 	"plexus/types"
 )
 
@@ -117,8 +118,8 @@ func (j judge) typeOf(n api.Node, want api.Type) api.Type {
 
 // together returns the type of two operands.
 func (j judge) together(n, a, b api.Node, elements bool) api.Type {
-	refuse(isOpen(a) && isOpen(b), api.ErrType, n.At)
-	if isOpen(a) {
+	refuse(sample.IsOpen(a) && sample.IsOpen(b), api.ErrType, n.At)
+	if sample.IsOpen(a) {
 		a, b = b, a
 	}
 	t := j.expect(a, none)
@@ -134,7 +135,7 @@ func (j judge) call(n api.Node, want api.Type) api.Type {
 	}
 	refuse(len(n.Kids) != count, api.ErrArgument, n.At)
 	kinds := map[string][]int{"flag": {api.Flag}, "num": {api.Max, api.Min}, "set": {api.Set, api.Closed}, "map": {api.Map}, "rec": {api.Product}, "pair": {api.Lex}, "one": {api.Flat}}[n.Text]
-	refuse(isOpen(n) && !isLattice(want, kinds...), api.ErrType, n.At)
+	refuse(sample.IsOpen(n) && !isLattice(want, kinds...), api.ErrType, n.At)
 	switch n.Text {
 	case "flag":
 		j.expect(n.Kids[0], truth)
@@ -169,7 +170,7 @@ func (j judge) call(n api.Node, want api.Type) api.Type {
 		return register
 	default:
 		t := j.expect(n.Kids[0], none)
-		refuse(!reads(n.Text, t), api.ErrType, n.At)
+		refuse(!sample.Reads(n.Text, t), api.ErrType, n.At)
 		switch n.Text {
 		case "first":
 			return of(t.Lattice.Parts[0])

@@ -9,23 +9,13 @@ import (
 	"plexus/types"
 )
 
-// descriptions returns descriptions of objects.
-func descriptions() []api.Lattice {
-	flag, set, flat, register := api.Lattice{Kind: api.Flag}, api.Lattice{Kind: api.Set}, api.Lattice{Kind: api.Flat}, api.Lattice{Kind: api.Register}
-	closed := sample.Closed([]string{"a", "b", "c"}, api.Rule{If: []string{"a", "b"}, Then: "c"})
-	large := api.Lattice{Kind: api.Product, Names: []string{"c", "a", "s", "if", "p"}, Parts: []api.Lattice{sample.Bounds(api.Max, 0, 9), sample.MapOf(set), register, sample.MapOf(sample.Bounds(api.Min, -3, 3), "x", "y"), sample.Lex(flag, sample.Product(flat, closed, sample.MapOf(sample.MapOf(flag))))}}
-	small := sample.Product(sample.MapOf(sample.Lex(sample.Bounds(api.Min, 0, 9), flat)), register, sample.Bounds(api.Max, -1, 1), closed)
-	list := []api.Lattice{large, large, large, small, sample.MapOf(small, "k"), sample.Lex(flag, small), sample.MapOf(sample.Lex(sample.Lex(flag, sample.Bounds(api.Max, 0, 5)), register)), sample.Product(small, small, set)}
-	return append(append(list, sample.Finite()...), sample.Nested()...)
-}
-
 // wanted returns the type of an expression and whether the elaboration is told so.
-func wanted(m *maker) (api.Type, int) {
-	if m.source.Intn(2) == 0 {
-		return of(m.l), sure
+func wanted(m *sample.Maker) (api.Type, int) {
+	if m.Intn(2) == 0 {
+		return of(m.Lattice), sample.Sure
 	}
-	t := one(m, append(m.readable(), number, truth, name, names)...)
-	return t, one(m, sure, unknown)
+	t := one(m, append(m.Readable(), number, truth, name, names)...)
+	return t, one(m, sample.Sure, sample.Unknown)
 }
 
 // TestMade covers P18.1: the elaborations of random expressions.
@@ -33,22 +23,22 @@ func TestMade(t *testing.T) {
 	source := rand.New(rand.NewSource(1))
 	ops := map[int]int{}
 	for range 60 {
-		for _, l := range descriptions() {
-			m := newMaker(source, l)
+		for _, l := range sample.Objects() {
+			m := sample.NewMaker(source.Intn, l)
 			want, how := wanted(m)
-			x := m.make(want, how, source.Intn(5))
-			if how == unknown {
+			x := m.Make(want, how, source.Intn(5))
+			if how == sample.Unknown {
 				want = none
 			}
-			before := text(x.n)
-			e, fault := types.Expression(l, m.params, want, x.n)
-			if fault != (api.Fault{}) || text(e) != text(x.e) {
-				t.Fatalf("%v: %v,\n%v; not\n%v", x.n, fault, e, x.e)
+			before := text(x.Tree)
+			e, fault := types.Expression(l, m.Params, want, x.Tree)
+			if fault != (api.Fault{}) || text(e) != text(x.Expr) {
+				t.Fatalf("%v: %v,\n%v; not\n%v", x.Tree, fault, e, x.Expr)
 			}
-			if text(x.n) != before {
-				t.Fatalf("%v has become %v", before, x.n)
+			if text(x.Tree) != before {
+				t.Fatalf("%v has become %v", before, x.Tree)
 			}
-			count(x.e, ops)
+			count(x.Expr, ops)
 		}
 	}
 	for op := api.XInt; op <= api.XConflict; op++ {
@@ -96,35 +86,35 @@ func find(n *api.Node, at int) *api.Node {
 func TestOneFault(t *testing.T) {
 	source := rand.New(rand.NewSource(2))
 	for range 40 {
-		for _, l := range descriptions() {
-			m := newMaker(source, l)
+		for _, l := range sample.Objects() {
+			m := sample.NewMaker(source.Intn, l)
 			want, how := wanted(m)
-			x := m.make(want, how, source.Intn(5))
-			if how == unknown {
+			x := m.Make(want, how, source.Intn(5))
+			if how == sample.Unknown {
 				want = none
 			}
-			s := one(m, m.steps...)
+			s := one(m, m.Steps...)
 			by, code := wrong(m, s)
-			by.At = s.at
-			n := replace(x.n, s.at, by)
-			if _, fault := types.Expression(l, m.params, want, n); fault != (api.Fault{Code: code, At: s.at}) {
-				t.Fatalf("%v at %d: %v, not %d", n, s.at, fault, code)
+			by.At = s.At
+			n := replace(x.Tree, s.At, by)
+			if _, fault := types.Expression(l, m.Params, want, n); fault != (api.Fault{Code: code, At: s.At}) {
+				t.Fatalf("%v at %d: %v, not %d", n, s.At, fault, code)
 			}
 		}
 	}
 }
 
 // wrong returns an expression with a fault at its own offset, wherever the step s is done for it.
-func wrong(m *maker, s step) (api.Node, api.Errno) {
+func wrong(m *sample.Maker, s sample.Step) (api.Node, api.Errno) {
 	state := api.Node{Kind: api.NodeState, At: -5000}
-	switch i := m.source.Intn(5); {
-	case s.strict && i == 0:
-		return api.Node{Kind: map[bool]int{true: api.NodeTrue, false: api.NodeInt}[s.t.Sort == api.SortInt]}, api.ErrType
-	case s.strict && i == 1 && s.t.Sort != 0:
+	switch i := m.Intn(5); {
+	case s.Strict && i == 0:
+		return api.Node{Kind: map[bool]int{true: api.NodeTrue, false: api.NodeInt}[s.Type.Sort == api.SortInt]}, api.ErrType
+	case s.Strict && i == 1 && s.Type.Sort != 0:
 		return one(m, api.Node{Kind: api.NodeBottom}, state, api.Node{Kind: api.NodeJoin, Kids: []api.Node{state, state}}), api.ErrType
-	case s.strict && i == 2:
+	case s.Strict && i == 2:
 		return api.Node{Kind: api.NodeCall, Text: one(m, "pair", "one", "flag", "num", "write", "size", "keys", "on"), Kids: []api.Node{state, state, state, state}}, api.ErrArgument
-	case i == 3 && m.l.Kind == api.Product:
+	case i == 3 && m.Lattice.Kind == api.Product:
 		return api.Node{Kind: api.NodeField, Text: "nothing", Kids: []api.Node{state}}, api.ErrName
 	case i == 3:
 		return api.Node{Kind: api.NodeField, Text: "nothing", Kids: []api.Node{state}}, api.ErrType
@@ -137,27 +127,27 @@ func TestFirstFault(t *testing.T) {
 	source := rand.New(rand.NewSource(3))
 	seen := 0
 	for range 100 {
-		for _, l := range descriptions() {
-			m := newMaker(source, l)
+		for _, l := range sample.Objects() {
+			m := sample.NewMaker(source.Intn, l)
 			want, how := wanted(m)
-			x := m.make(want, how, 1+source.Intn(4))
-			if how == unknown {
+			x := m.Make(want, how, 1+source.Intn(4))
+			if how == sample.Unknown {
 				want = none
 			}
-			i := source.Intn(len(m.steps))
-			j := i + source.Intn(len(m.steps)-i)
+			i := source.Intn(len(m.Steps))
+			j := i + source.Intn(len(m.Steps)-i)
 			// What is open would no longer be open, which changes the order of elaboration.
-			if m.steps[i].open || m.steps[j].open {
+			if m.Steps[i].Open || m.Steps[j].Open {
 				continue
 			}
 			// The second one may be a part of the first one, but then it is not left.
-			n := replace(x.n, m.steps[j].at, api.Node{Kind: api.NodeName, Text: "nothing", At: m.steps[j].at})
-			n = replace(n, m.steps[i].at, api.Node{Kind: api.NodeName, Text: "nothing", At: m.steps[i].at})
-			if i != j && find(&n, m.steps[j].at) != nil {
+			n := replace(x.Tree, m.Steps[j].At, api.Node{Kind: api.NodeName, Text: "nothing", At: m.Steps[j].At})
+			n = replace(n, m.Steps[i].At, api.Node{Kind: api.NodeName, Text: "nothing", At: m.Steps[i].At})
+			if i != j && find(&n, m.Steps[j].At) != nil {
 				seen++
 			}
-			if _, fault := types.Expression(l, m.params, want, n); fault != (api.Fault{Code: api.ErrName, At: m.steps[i].at}) {
-				t.Fatalf("%v: %v, not at %d", n, fault, m.steps[i].at)
+			if _, fault := types.Expression(l, m.Params, want, n); fault != (api.Fault{Code: api.ErrName, At: m.Steps[i].At}) {
+				t.Fatalf("%v: %v, not at %d", n, fault, m.Steps[i].At)
 			}
 		}
 	}
@@ -171,19 +161,19 @@ func TestJudged(t *testing.T) {
 	source := rand.New(rand.NewSource(4))
 	codes := map[api.Errno]int{}
 	for range 300 {
-		for _, l := range descriptions() {
-			m := newMaker(source, l)
+		for _, l := range sample.Objects() {
+			m := sample.NewMaker(source.Intn, l)
 			want, how := wanted(m)
-			x := m.make(want, how, source.Intn(4))
-			if how == unknown {
+			x := m.Make(want, how, source.Intn(4))
+			if how == sample.Unknown {
 				want = none
 			}
-			n := x.n
+			n := x.Tree
 			for range source.Intn(4) {
-				n = replace(n, one(m, m.steps...).at, m.any())
+				n = replace(n, one(m, m.Steps...).At, anyExpression(m))
 			}
-			typ, first := judge{l, m.params}.verdict(n, want)
-			e, fault := types.Expression(l, m.params, want, n)
+			typ, first := judge{l, m.Params}.verdict(n, want)
+			e, fault := types.Expression(l, m.Params, want, n)
 			codes[fault.Code]++
 			if fault != first || !types.Same(e.Type, typ) || fault.Code != api.OK && text(e) != text(api.Expr{}) {
 				t.Fatalf("%v with %v expected: %v, %v; not %v, %v", n, want, fault, e.Type, first, typ)
@@ -198,36 +188,36 @@ func TestJudged(t *testing.T) {
 	}
 }
 
-// any returns any expression: one of the maker's, or one that knows nothing of types.
-func (m *maker) any() api.Node {
-	if m.source.Intn(2) == 0 {
-		list := append(m.readable(), number, truth, name, names)
-		steps := m.steps
-		x := m.make(one(m, list...), one(m, told, sure, unknown), m.source.Intn(3))
-		m.steps = steps
-		return x.n
+// anyExpression returns any expression: one of the maker's, or one that knows nothing of types.
+func anyExpression(m *sample.Maker) api.Node {
+	if m.Intn(2) == 0 {
+		list := append(m.Readable(), number, truth, name, names)
+		steps := m.Steps
+		x := m.Make(one(m, list...), one(m, sample.Told, sample.Sure, sample.Unknown), m.Intn(3))
+		m.Steps = steps
+		return x.Tree
 	}
-	fields := append([]string{"a", "x", "z"}, m.l.Names...)
-	for _, p := range m.params {
+	fields := append([]string{"a", "x", "z"}, m.Lattice.Names...)
+	for _, p := range m.Params {
 		fields = append(fields, p.Name)
 	}
-	trees := sample.Trees{Intn: m.source.Intn, Names: fields, Quotes: []string{"a", "x", "if"}}
-	return trees.Expression(m.source.Intn(3))
+	trees := sample.Trees{Intn: m.Intn, Names: fields, Quotes: []string{"a", "x", "if"}}
+	return trees.Expression(m.Intn(3))
 }
 
 // TestAnotherParam covers P18.6: a further parameter changes nothing.
 func TestAnotherParam(t *testing.T) {
 	source := rand.New(rand.NewSource(5))
 	for range 30 {
-		for _, l := range descriptions() {
-			m := newMaker(source, l)
+		for _, l := range sample.Objects() {
+			m := sample.NewMaker(source.Intn, l)
 			want, how := wanted(m)
-			n := m.make(want, how, source.Intn(4)).n
+			n := m.Make(want, how, source.Intn(4)).Tree
 			if source.Intn(2) == 0 {
-				n = replace(n, one(m, m.steps...).at, m.any())
+				n = replace(n, one(m, m.Steps...).At, anyExpression(m))
 			}
-			e, fault := types.Expression(l, m.params, want, n)
-			again, g := types.Expression(l, append(m.params, api.Param{Name: "other", Sort: 1 + source.Intn(4)}), want, n)
+			e, fault := types.Expression(l, m.Params, want, n)
+			again, g := types.Expression(l, append(m.Params, api.Param{Name: "other", Sort: 1 + source.Intn(4)}), want, n)
 			if fault != g || text(e) != text(again) {
 				t.Fatalf("%v: %v, %v", n, fault, g)
 			}

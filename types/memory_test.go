@@ -56,21 +56,21 @@ func TestMemory(t *testing.T) {
 		other, _ := types.Tree(p)
 		separate(t, n, p, q, tree, other)
 	}
-	for _, l := range descriptions() {
+	for _, l := range sample.Objects() {
 		l, _ = lattice.Decode(lattice.Encode(l)) // some of them have the same part twice
-		m := newMaker(source, l)
+		m := sample.NewMaker(source.Intn, l)
 		want, how := wanted(m)
-		n := m.make(want, how, 4).n
-		e, fault := types.Expression(l, m.params, want, n)
-		f, _ := types.Expression(l, m.params, want, n)
+		n := m.Make(want, how, 4).Tree
+		e, fault := types.Expression(l, m.Params, want, n)
+		f, _ := types.Expression(l, m.Params, want, n)
 		if fault.Code != api.OK {
 			t.Fatalf("%v: %v", n, fault)
 		}
 		// The type that is expected can be that of the object.
-		separate(t, l, m.params, n, e, f)
+		separate(t, l, m.Params, n, e, f)
 		separate(t, want, e, f)
 	}
-	list := []api.Object{{Name: "l", Lattice: descriptions()[3]}}
+	list := []api.Object{{Name: "l", Lattice: sample.Objects()[3]}}
 	for _, text := range []string{"l", "lex(flag, l)", "map('b', 'a') l", "{a: set('x'), b: l}", "{a: closed('a', 'b'; 'a' => 'b'), b: flat('x', 'y')}"} {
 		n, _ := parser.Lattice(text)
 		a, fault := types.Lattice(list, n)
@@ -126,60 +126,32 @@ func anyNode(source *rand.Rand, depth int) api.Node {
 	return n
 }
 
-// anyLattice returns a description that is valid only by chance.
-func anyLattice(source *rand.Rand, depth int) api.Lattice {
-	l := api.Lattice{Kind: source.Intn(13) - 1, Hi: int64(source.Intn(3) - 1), Names: [][]string{nil, {"a"}, {"a", "b"}, {"a", "a"}}[source.Intn(4)]}
-	for range source.Intn(3) {
-		if depth > 0 {
-			l.Parts = append(l.Parts, anyLattice(source, depth-1))
-		}
-	}
-	if source.Intn(4) == 0 {
-		l.Rules = []api.Rule{{If: []string{"a"}, Then: "b"}, {}}
-	}
-	return l
-}
-
-// anyExpr returns an expression that is elaborated only by chance.
-func anyExpr(source *rand.Rand, depth int) api.Expr {
-	e := api.Expr{Op: source.Intn(41) - 1, Type: api.Type{Sort: source.Intn(7) - 1, Lattice: anyLattice(source, 1)}, N: int64(source.Intn(6) - 2), Text: []string{"", "a"}[source.Intn(2)]}
-	if source.Intn(2) == 0 {
-		e.Type.Lattice = api.Lattice{}
-	}
-	for range source.Intn(4) {
-		if depth > 0 {
-			e.Kids = append(e.Kids, anyExpr(source, depth-1))
-		}
-	}
-	return e
-}
-
 // TestAnyArguments covers P1: all functions terminate without a panic for arguments of all kinds, also for those for which no result is promised.
 func TestAnyArguments(t *testing.T) {
 	source := rand.New(rand.NewSource(12))
 	params := []api.Param{{Name: "a", Sort: 9}, {Name: "a"}, {Name: "", Sort: -1}, {Name: "b", Sort: 4}}
 	trees := sample.Trees{Intn: source.Intn, Names: []string{"a", "b", "z"}, Quotes: []string{"a", "b"}}
 	for range 20000 {
-		l, n := anyLattice(source, 3), anyNode(source, 3)
-		want := api.Type{Sort: source.Intn(7) - 1, Lattice: anyLattice(source, 2)}
+		l, n := sample.AnyLattice(source.Intn, 3), anyNode(source, 3)
+		want := api.Type{Sort: source.Intn(7) - 1, Lattice: sample.AnyLattice(source.Intn, 2)}
 		for i := range 2 {
-			known := []api.Object{{Name: "a", Lattice: anyLattice(source, 2)}, {Name: "a"}, {Name: "b", Lattice: api.Lattice{Kind: api.Map}}}
+			known := []api.Object{{Name: "a", Lattice: sample.AnyLattice(source.Intn, 2)}, {Name: "a"}, {Name: "b", Lattice: api.Lattice{Kind: api.Map}}}
 			p, fault := types.Check(n)
 			refused(t, n, fault, text(p) == text(api.Program{}))
 			d, fault := types.Lattice(known, n)
 			refused(t, n, fault, text(d) == text(api.Lattice{}))
 			e, fault := types.Expression(l, params, want, n)
 			refused(t, n, fault, text(e) == text(api.Expr{}))
-			e, fault = types.Expression(descriptions()[0], params, []api.Type{none, want}[i], n)
+			e, fault = types.Expression(sample.Objects()[0], params, []api.Type{none, want}[i], n)
 			refused(t, n, fault, text(e) == text(api.Expr{}))
 			n = trees.Expression(2)
 			if source.Intn(2) == 0 {
 				n = trees.Lattice(2)
 			}
 		}
-		f := api.Function{Name: "f", On: "a", Params: params[3:], Result: source.Intn(7) - 1, Body: anyExpr(source, 2)}
+		f := api.Function{Name: "f", On: "a", Params: params[3:], Result: source.Intn(7) - 1, Body: sample.AnyExpr(source.Intn, 2)}
 		types.Valid(l, f)
-		types.Valid(descriptions()[0], f)
+		types.Valid(sample.Objects()[0], f)
 		types.Same(want, api.Type{Lattice: l})
 		p := api.Program{Objects: []api.Object{{Name: "a", Lattice: l}}, Updates: []api.Function{f}}
 		if tree, e := types.Tree(p); types.Program(p) != (e == api.OK) || e != api.OK && text(tree) != text(api.Node{}) {

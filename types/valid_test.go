@@ -102,7 +102,7 @@ func TestValid(t *testing.T) {
 			f.Params = append(f.Params, api.Param{Name: name, Sort: 4})
 		}
 	})
-	for _, other := range append(sample.Invalid(), descriptions()...) {
+	for _, other := range append(sample.Invalid(), sample.Objects()...) {
 		check(lattice.Equal(other, l), func(l *api.Lattice, _ *api.Function) { *l = other })
 		state := api.Expr{Op: api.XState, Type: of(other)}
 		check(lattice.Check(other) == api.OK, func(l *api.Lattice, f *api.Function) { *l, f.Body = other, state })
@@ -134,14 +134,14 @@ func TestValid(t *testing.T) {
 func TestMadeBodies(t *testing.T) {
 	source := rand.New(rand.NewSource(9))
 	for range 15 {
-		for _, l := range descriptions() {
-			m := newMaker(source, l)
-			f := api.Function{Name: "f", On: "o", Params: m.params, Result: source.Intn(5)}
+		for _, l := range sample.Objects() {
+			m := sample.NewMaker(source.Intn, l)
+			f := api.Function{Name: "f", On: "o", Params: m.Params, Result: source.Intn(5)}
 			want := of(l)
 			if f.Result > 0 {
 				want = api.Type{Sort: f.Result}
 			}
-			f.Body = m.make(want, sure, source.Intn(4)).e
+			f.Body = m.Make(want, sample.Sure, source.Intn(4)).Expr
 			if !types.Valid(l, f) {
 				t.Fatalf("%v for %v", f, l)
 			}
@@ -153,7 +153,7 @@ func TestMadeBodies(t *testing.T) {
 				if !types.Valid(l, g) {
 					t.Fatalf("%v for %v: At counts", g, l)
 				}
-				if what := m.spoil(e); types.Valid(l, g) {
+				if what := spoil(m, e); types.Valid(l, g) {
 					t.Fatalf("%v for %v: %s", g, l, what)
 				}
 			}
@@ -171,9 +171,9 @@ func exprs(e *api.Expr) []*api.Expr {
 }
 
 // spoil changes an expression that is elaborated, so that it is no longer, and says what it has changed.
-func (m *maker) spoil(e *api.Expr) string {
-	kid := one(m, api.Expr{Op: api.XInt, Type: number}, api.Expr{Op: api.XState, Type: of(m.l)}, api.Expr{})
-	switch m.source.Intn(8) {
+func spoil(m *sample.Maker, e *api.Expr) string {
+	kid := one(m, api.Expr{Op: api.XInt, Type: number}, api.Expr{Op: api.XState, Type: of(m.Lattice)}, api.Expr{})
+	switch m.Intn(8) {
 	case 0:
 		e.Op = one(m, 0, -1, 38, 99)
 		return "Op"
