@@ -4,6 +4,7 @@ import (
 	"slices"
 
 	"plexus/api"
+	"plexus/copies"
 	"plexus/lattice"
 	"plexus/value"
 )
@@ -51,7 +52,7 @@ func decompose(l api.Lattice, v api.Value) []api.Value {
 		})
 	case api.Register:
 		for _, e := range v.Entries {
-			list = append(list, api.Value{Entries: []api.Entry{copyOfEntry(e)}})
+			list = append(list, api.Value{Entries: []api.Entry{copies.Entry(e)}})
 		}
 	}
 	// An element of a chain, or of a Lex with nothing in its second part, is irreducible as a whole.
@@ -66,9 +67,4 @@ func alone(l api.Lattice, i int, v api.Value) api.Value {
 	product := bottom(l)
 	product.Parts[i] = v
 	return product
-}
-
-// copyOfEntry returns a copy of e, which shares no memory with it.
-func copyOfEntry(e api.Entry) api.Entry {
-	return api.Entry{Clock: slices.Clone(e.Clock), Name: e.Name}
 }

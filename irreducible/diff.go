@@ -5,6 +5,7 @@ import (
 
 	"plexus/api"
 	"plexus/clock"
+	"plexus/copies"
 	"plexus/join"
 	"plexus/names"
 	"plexus/value"
@@ -68,7 +69,7 @@ func diffEntries(a, b []api.Entry) []api.Entry {
 			return other.Name == e.Name && slices.Equal(other.Clock, e.Clock) || clock.Compare(e.Clock, other.Clock) == clock.Before
 		}
 		if !slices.ContainsFunc(b, covers) {
-			list = append(list, copyOfEntry(e))
+			list = append(list, copies.Entry(e))
 		}
 	}
 	return list

@@ -5,6 +5,7 @@ import (
 
 	"plexus/api"
 	"plexus/closure"
+	"plexus/copies"
 	"plexus/names"
 	"plexus/value"
 )
@@ -26,9 +27,9 @@ func upper(l api.Lattice, a, b api.Value) api.Value {
 	}
 	switch {
 	case leq(l, a, b):
-		return clone(b)
+		return copies.Value(b)
 	case leq(l, b, a):
-		return clone(a)
+		return copies.Value(a)
 	case l.Kind == api.Flat:
 		return api.Value{N: flatTop}
 	}
@@ -43,7 +44,7 @@ func upperOfAll(l api.Lattice, list []api.Value) api.Value {
 		least, _ := value.Bottom(l)
 		return least
 	case 1:
-		return clone(list[0])
+		return copies.Value(list[0])
 	}
 	half := len(list) / 2
 	return upper(l, upperOfAll(l, list[:half]), upperOfAll(l, list[half:]))
@@ -61,9 +62,9 @@ func lower(l api.Lattice, a, b api.Value) api.Value {
 	}
 	switch {
 	case leq(l, a, b):
-		return clone(a)
+		return copies.Value(a)
 	case leq(l, b, a):
-		return clone(b)
+		return copies.Value(b)
 	case l.Kind == api.Flat:
 		return api.Value{N: flatBottom}
 	}
@@ -89,9 +90,9 @@ func upperMap(part api.Lattice, a, b api.Value) api.Value {
 		y, inB := get(b, key)
 		switch {
 		case !inB:
-			parts[i] = clone(x)
+			parts[i] = copies.Value(x)
 		case !inA:
-			parts[i] = clone(y)
+			parts[i] = copies.Value(y)
 		default:
 			parts[i] = upper(part, x, y)
 		}
@@ -120,13 +121,13 @@ func upperEntries(a, b []api.Entry) []api.Entry {
 	var list []api.Entry
 	for _, e := range a {
 		if !slices.ContainsFunc(b, func(other api.Entry) bool { return isBelow(e, other) }) {
-			list = append(list, cloneEntry(e))
+			list = append(list, copies.Entry(e))
 		}
 	}
 	// An entry of both is among those of a already.
 	for _, e := range b {
 		if !isCovered(e, a) {
-			list = append(list, cloneEntry(e))
+			list = append(list, copies.Entry(e))
 		}
 	}
 	slices.SortFunc(list, compareEntries)
@@ -136,21 +137,4 @@ func upperEntries(a, b []api.Entry) []api.Entry {
 // compareEntries compares p and q in the order of entries, which is that of the registers that consist of them.
 func compareEntries(p, q api.Entry) int {
 	return value.Compare(api.Value{Entries: []api.Entry{p}}, api.Value{Entries: []api.Entry{q}})
-}
-
-// clone returns a copy of v, which shares no memory with it.
-func clone(v api.Value) api.Value {
-	v.Names, v.Parts, v.Entries = slices.Clone(v.Names), slices.Clone(v.Parts), slices.Clone(v.Entries)
-	for i, part := range v.Parts {
-		v.Parts[i] = clone(part)
-	}
-	for i, e := range v.Entries {
-		v.Entries[i] = cloneEntry(e)
-	}
-	return v
-}
-
-// cloneEntry returns a copy of e, which shares no memory with it.
-func cloneEntry(e api.Entry) api.Entry {
-	return api.Entry{Clock: slices.Clone(e.Clock), Name: e.Name}
 }

@@ -10,6 +10,7 @@ import (
 	"testing"
 
 	"plexus/api"
+	"plexus/copies"
 	"plexus/sample"
 )
 
@@ -195,7 +196,7 @@ func TestEqual(t *testing.T) {
 				t.Errorf("Equal(%v, %v) is not %t", a, b, i == k)
 			}
 		}
-		if !Equal(a, emptied(a)) || !Equal(emptied(a), a) || !Equal(a, clone(a)) {
+		if !Equal(a, emptied(a)) || !Equal(emptied(a), a) || !Equal(a, copies.Lattice(a)) {
 			t.Errorf("%v with empty slices instead of nil is not the same", a)
 		}
 	}

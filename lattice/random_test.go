@@ -8,6 +8,7 @@ import (
 	"testing"
 
 	"plexus/api"
+	"plexus/copies"
 	"plexus/names"
 )
 
@@ -158,7 +159,7 @@ func TestCheckAtRandom(t *testing.T) {
 	source := rand.New(rand.NewSource(2))
 	seen := map[api.Errno]int{}
 	for range 30000 {
-		l := clone(randomLattice(source, 1+source.Intn(5)))
+		l := copies.Lattice(randomLattice(source, 1+source.Intn(5)))
 		for range source.Intn(4) {
 			spoil(source, &l)
 		}
@@ -203,7 +204,7 @@ func TestInvalid(t *testing.T) {
 	}
 	source := rand.New(rand.NewSource(4))
 	for range 5000 {
-		l := clone(randomLattice(source, 1+source.Intn(4)))
+		l := copies.Lattice(randomLattice(source, 1+source.Intn(4)))
 		for range 1 + source.Intn(4) {
 			spoil(source, &l)
 		}
@@ -233,7 +234,7 @@ func TestSharesNothing(t *testing.T) {
 	inner := closed([]string{"a", "b"}, rule("a", "b"), rule("b", "a"))
 	parts := []api.Lattice{mapOf(inner, "k"), inner, flag}
 	l := api.Lattice{Kind: api.Product, Names: []string{"y", "x", "spare"}[:2], Parts: parts[:2]}
-	before := clone(l)
+	before := copies.Lattice(l)
 	if !reflect.DeepEqual(before, l) {
 		t.Fatalf("the copy %v of %v", before, l)
 	}

@@ -140,13 +140,6 @@ func (c coverer) reading(function string, op, sort int, path []int, d int) Made 
 // isLoose decides whether the next part is any expression.
 func (c coverer) isLoose() bool { return c.loose > 0 && c.Intn(c.loose) == 0 }
 
-// placed gives an expression an offset and its type.
-func (c coverer) placed(x Made, t api.Type) Made {
-	at := c.offset()
-	x.Tree.At, x.Expr.At, x.Expr.Type = at, at, t
-	return x
-}
-
 // mixed returns a list in any order.
 func (c coverer) mixed(list ...Made) []Made {
 	var some []Made

@@ -110,6 +110,14 @@ func Reads(function string, t api.Type) bool {
 	return function != "sum" && slices.Contains(kinds, t.Lattice.Kind)
 }
 
+// placed gives an expression an offset and its type.
+func (m *Maker) placed(x Made, t api.Type) Made {
+	at := m.offset()
+	x.Tree.At, x.Expr.At, x.Expr.Type = at, at, t
+	fixBottoms(&x)
+	return x
+}
+
 // offset returns an offset that no other node has.
 func (m *Maker) offset() int {
 	for {

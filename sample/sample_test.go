@@ -1,12 +1,15 @@
 package sample_test
 
 import (
+	"fmt"
 	"math/rand"
 	"testing"
 
 	"plexus/api"
+	"plexus/eval"
 	"plexus/lattice"
 	"plexus/sample"
+	"plexus/types"
 	"plexus/value"
 )
 
@@ -83,6 +86,61 @@ func TestOverwrite(t *testing.T) {
 	for i, b := range []api.Value{{Names: a.Names}, {Parts: a.Parts}, a.Parts[0], sample.Written(api.Entry{Clock: a.Parts[0].Entries[0].Clock})} {
 		if sample.Overwrite([]api.Value{a, b}) {
 			t.Errorf("case %d: memory that is shared is not found", i)
+		}
+	}
+}
+
+// TestSeparate checks that memory that is shared is found, in all types, also behind the end of a slice.
+func TestSeparate(t *testing.T) {
+	fresh := func() []any {
+		list := []string{"a", "b", "c"}
+		l := sample.Product(sample.Closed(list, api.Rule{If: list[:1:1], Then: "b"}), api.Lattice{Kind: api.Set})
+		l.Parts[0].Rules[0].If = []string{"a"}
+		v := sample.Parts(sample.Keyed([]string{"k"}, sample.Written(sample.Entry("x", 1, 1))), sample.Named("a"))
+		d := api.Datum{Sort: api.SortNames, Names: []string{"a"}}
+		x := api.Expr{Type: sample.Of(sample.MapOf(api.Lattice{Kind: api.Set}, "a")), Kids: []api.Expr{{}}}
+		f := api.Function{Params: []api.Param{{Name: "a"}}, Body: x}
+		o := api.Object{Name: "o", Lattice: sample.Words(api.Set, "a")}
+		return []any{l, v, d, x, f, "text", []string{"a"}, []api.Object{o}, api.Type{Lattice: sample.Words(api.Flat, "a")}, []api.Datum{d}, api.Node{Kids: []api.Node{{}}}, []api.Param{{Name: "a"}}, api.Program{Objects: []api.Object{o}, Updates: []api.Function{f}}, api.Program{Queries: []api.Function{f}}}
+	}
+	shared := 0
+	for i := range fresh() {
+		if !sample.Separate(fresh()[i], fresh()[i]) {
+			t.Errorf("value %d shares memory", i)
+		}
+		if v := fresh()[i]; !sample.Separate(v, v) {
+			shared++
+		}
+	}
+	if shared != len(fresh())-1 {
+		t.Errorf("shared memory is found in %d values", shared)
+	}
+	list := []string{"a", "b"}
+	if sample.Separate(list[:1], list[1:]) || !sample.Separate(list[:1:1], list[1:]) || sample.Separate(1) || sample.Separate(sample.Product(api.Lattice{Names: list}, api.Lattice{Names: list})) {
+		t.Error("parts of a list")
+	}
+}
+
+// TestAdding checks that what is added is an elaboration, and has many values.
+func TestAdding(t *testing.T) {
+	source := rand.New(rand.NewSource(2))
+	for _, l := range sample.Objects() {
+		more := 0
+		for range 100 {
+			m := sample.NewMaker(source.Intn, l)
+			x := m.Adding(sample.Of(l))
+			e, fault := types.Expression(l, m.Params, sample.Of(l), x.Tree)
+			if fault.Code != api.OK || fmt.Sprint(e) != fmt.Sprint(x.Expr) {
+				t.Fatalf("%+v: %v, %+v", x, fault, e)
+			}
+			bottom, _ := value.Bottom(l)
+			v, code := eval.Value(e, bottom, sample.Arguments(source.Intn, m.Params))
+			if code == api.OK && !sample.Same(v, bottom) {
+				more++
+			}
+		}
+		if top, e := value.Top(l); more < 20 && (e != api.OK || !value.IsBottom(l, top)) {
+			t.Errorf("%+v: only %d elements are not the bottom", l, more)
 		}
 	}
 }

@@ -5,6 +5,7 @@ import (
 	"slices"
 
 	"plexus/api"
+	"plexus/copies"
 )
 
 // loader checks the declarations of a program, one after the other.
@@ -45,7 +46,7 @@ func (c *loader) declaration(d api.Node, before int) {
 func (c *loader) result() api.Program {
 	p := c.program
 	for i := range p.Objects {
-		p.Objects[i].Lattice = cloneLattice(p.Objects[i].Lattice)
+		p.Objects[i].Lattice = copies.Lattice(p.Objects[i].Lattice)
 	}
 	for _, list := range [][]api.Function{p.Updates, p.Queries} {
 		for i := range list {

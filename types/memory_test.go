@@ -2,7 +2,6 @@ package types_test
 
 import (
 	"math/rand"
-	"reflect"
 	"strings"
 	"testing"
 
@@ -13,35 +12,11 @@ import (
 	"plexus/types"
 )
 
-// pieces adds the addresses of all elements of slices in a value, and fails if one occurs twice.
-func pieces(t *testing.T, v reflect.Value, seen map[uintptr]bool) {
-	t.Helper()
-	switch v.Kind() {
-	case reflect.Struct:
-		for i := range v.NumField() {
-			pieces(t, v.Field(i), seen)
-		}
-	case reflect.Slice:
-		// What lies behind the end of a slice can belong to another one.
-		for i := range v.Cap() {
-			at := v.Slice(0, v.Cap()).Index(i).Addr().Pointer()
-			if seen[at] {
-				t.Fatalf("memory is shared, of %v", v)
-			}
-			seen[at] = true
-		}
-		for i := range v.Len() {
-			pieces(t, v.Index(i), seen)
-		}
-	}
-}
-
 // separate checks that no slices in a list of values share memory, neither within a value nor with another one.
 func separate(t *testing.T, values ...any) {
 	t.Helper()
-	seen := map[uintptr]bool{}
-	for _, v := range values {
-		pieces(t, reflect.ValueOf(v), seen)
+	if !sample.Separate(values...) {
+		t.Fatalf("memory is shared, of %v", values)
 	}
 }
 

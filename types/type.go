@@ -4,6 +4,7 @@ import (
 	"slices"
 
 	"plexus/api"
+	"plexus/copies"
 	"plexus/lattice"
 )
 
@@ -48,21 +49,9 @@ func expected(l api.Lattice, result int) *api.Type {
 	return &api.Type{Sort: result}
 }
 
-// cloneLattice returns a copy of a description, which shares no memory with it.
-func cloneLattice(l api.Lattice) api.Lattice {
-	l.Names, l.Parts, l.Rules = slices.Clone(l.Names), slices.Clone(l.Parts), slices.Clone(l.Rules)
-	for i, p := range l.Parts {
-		l.Parts[i] = cloneLattice(p)
-	}
-	for i, r := range l.Rules {
-		l.Rules[i].If = slices.Clone(r.If)
-	}
-	return l
-}
-
 // separate gives each node of an elaboration a type of its own. Until then they share memory with one another and with the arguments.
 func separate(e *api.Expr) {
-	e.Type.Lattice = cloneLattice(e.Type.Lattice)
+	e.Type.Lattice = copies.Lattice(e.Type.Lattice)
 	for i := range e.Kids {
 		separate(&e.Kids[i])
 	}

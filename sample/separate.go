@@ -1,0 +1,101 @@
+package sample
+
+import "plexus/api"
+
+// Separate reports whether no two slices in the values of a list share memory, neither within a value nor with another one, and whether it knows the types of them all.
+func Separate(values ...any) bool {
+	p := places{seen: map[any]bool{}}
+	for _, v := range values {
+		if !p.add(v) {
+			return false
+		}
+	}
+	return !p.twice
+}
+
+// places are the addresses of the elements of slices.
+type places struct {
+	seen  map[any]bool
+	twice bool // one of them was seen twice
+}
+
+// add adds the places of a value, and reports whether its type is known.
+func (p *places) add(v any) bool {
+	switch v := v.(type) {
+	case string:
+	case []string:
+		addAll(p, v, func(string) {})
+	case api.Lattice:
+		p.addLattice(v)
+	case []api.Object:
+		addAll(p, v, func(o api.Object) { p.addLattice(o.Lattice) })
+	case api.Type:
+		p.addLattice(v.Lattice)
+	case api.Value:
+		p.addValue(v)
+	case []api.Datum:
+		addAll(p, v, p.addDatum)
+	case api.Datum:
+		p.addDatum(v)
+	case api.Node:
+		p.addNode(v)
+	case api.Expr:
+		p.addExpr(v)
+	case []api.Param:
+		addAll(p, v, func(api.Param) {})
+	case api.Function:
+		p.addFunction(v)
+	case api.Program:
+		p.add(v.Objects)
+		addAll(p, v.Updates, p.addFunction)
+		addAll(p, v.Queries, p.addFunction)
+	default:
+		return false
+	}
+	return true
+}
+
+// addLattice adds the places of a description.
+func (p *places) addLattice(l api.Lattice) {
+	p.add(l.Names)
+	addAll(p, l.Parts, p.addLattice)
+	addAll(p, l.Rules, func(r api.Rule) { p.add(r.If) })
+}
+
+// addValue adds the places of an element.
+func (p *places) addValue(v api.Value) {
+	p.add(v.Names)
+	addAll(p, v.Parts, p.addValue)
+	addAll(p, v.Entries, func(e api.Entry) { addAll(p, e.Clock, func(api.Tick) {}) })
+}
+
+// addDatum adds the places of a datum.
+func (p *places) addDatum(d api.Datum) { p.add(d.Names) }
+
+// addNode adds the places of a syntax tree.
+func (p *places) addNode(n api.Node) { addAll(p, n.Kids, p.addNode) }
+
+// addExpr adds the places of an elaborated expression.
+func (p *places) addExpr(x api.Expr) {
+	p.addLattice(x.Type.Lattice)
+	addAll(p, x.Kids, p.addExpr)
+}
+
+// addFunction adds the places of an update or a query.
+func (p *places) addFunction(f api.Function) {
+	p.add(f.Params)
+	p.addExpr(f.Body)
+}
+
+// addAll adds the places of a slice and of its elements.
+func addAll[T any](p *places, list []T, inner func(x T)) {
+	// What lies behind the end of a slice can belong to another one.
+	all := list[:cap(list)]
+	for i := range all {
+		p.twice = p.twice || p.seen[&all[i]]
+		p.seen[&all[i]] = true
+	}
+	for _, x := range list {
+		inner(x)
+	}
+}
