@@ -39,6 +39,10 @@ func TestCopies(t *testing.T) {
 			check(t, p, copies.Program(p))
 		}
 	}
+	for range 100 {
+		m := sample.AnyMessage(source.Intn)
+		check(t, m, copies.Message(m))
+	}
 	e := sample.Entry("x", 1, 2, 3, 4)
 	check(t, sample.Written(e), sample.Written(copies.Entry(e)))
 }
@@ -49,7 +53,8 @@ func TestEmpty(t *testing.T) {
 	x := api.Expr{Type: sample.Of(api.Lattice{Names: v.Names, Parts: make([]api.Lattice, 0, 4), Rules: make([]api.Rule, 0, 4)}), Kids: make([]api.Expr, 0, 4)}
 	f := api.Function{Params: make([]api.Param, 0, 4), Body: x}
 	p := api.Program{Objects: make([]api.Object, 0, 4), Updates: make([]api.Function, 0, 4), Queries: make([]api.Function, 0, 4)}
-	if !sample.Separate(v, copies.Value(v), copies.Expr(x)) || !sample.Separate(f, copies.Function(f)) || !sample.Separate(p, copies.Program(p)) {
+	m := api.Message{Reads: make([]api.ReadID, 0, 4), Base: make([]api.Base, 0, 4), State: make([]api.Command, 0, 4), Acks: make([]api.Ack, 0, 4), Proof: make([]api.Proof, 0, 4), Digests: make([]api.Digest, 0, 4), Objects: make([]string, 0, 4), Items: make([]api.Item, 0, 4)}
+	if !sample.Separate(m, copies.Message(m)) || !sample.Separate(v, copies.Value(v), copies.Expr(x)) || !sample.Separate(f, copies.Function(f)) || !sample.Separate(p, copies.Program(p)) {
 		t.Error("memory is shared")
 	}
 }

@@ -7,6 +7,7 @@ import (
 
 	"plexus/api"
 	"plexus/disk"
+	"plexus/sample"
 )
 
 // P25.1: the numbers of a disk, and which ones there are.
@@ -152,7 +153,7 @@ func TestCrash(t *testing.T) {
 		for targets := range 1 << n {
 			for length := range n + 3 {
 				for bits := range 1 << length {
-					crash(t, flags(targets, n), flags(bits, length))
+					crash(t, sample.Flags(targets, n), sample.Flags(bits, length))
 				}
 			}
 		}
@@ -183,7 +184,7 @@ func crash(t *testing.T, toOne, keep []bool) {
 		}
 		d.Crash(keep)
 		contents(t, "crashed", d, want...)
-		d.Crash(flags(255, 8))
+		d.Crash(sample.Flags(255, 8))
 		contents(t, "crashed again", d, want...)
 	}
 }

@@ -7,6 +7,7 @@ import (
 
 	"plexus/api"
 	"plexus/disk"
+	"plexus/sample"
 )
 
 // P25.4: the example 2, with the next operation a Write or a Sync.
@@ -38,7 +39,7 @@ func TestFail(t *testing.T) {
 			d := made(t, 1, 16)
 			d.Fail(n)
 			cached := 0
-			for i, sync := range flags(kinds, 6)[:n] {
+			for i, sync := range sample.Flags(kinds, 6)[:n] {
 				if sync {
 					d.Sync()
 					cached = 0

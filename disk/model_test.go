@@ -6,6 +6,7 @@ import (
 	"testing"
 
 	"plexus/api"
+	"plexus/sample"
 )
 
 // model is a disk by the definitions of the chapter: contents are found by a search in the cache.
@@ -119,7 +120,7 @@ func TestModel(t *testing.T) {
 				d.Fail(n)
 				m.fail(n)
 			default:
-				keep := flags(source.Int(), source.Intn(12))
+				keep := sample.Flags(source.Int(), source.Intn(12))
 				d.Crash(keep)
 				m.crash(func(i int) bool { return i < len(keep) && keep[i] })
 			}

@@ -40,12 +40,3 @@ func contents(t *testing.T, what string, d *disk.Disk, want ...byte) {
 		}
 	}
 }
-
-// flags returns a list of n bools: the bits of a number, the lowest first.
-func flags(bits, n int) []bool {
-	list := make([]bool, n)
-	for i := range list {
-		list[i] = bits>>i&1 == 1
-	}
-	return list
-}

@@ -9,6 +9,7 @@ import (
 	"plexus/api"
 	"plexus/disk"
 	"plexus/journal"
+	"plexus/sample"
 )
 
 // operation is Append of a batch, or Reset.
@@ -44,9 +45,9 @@ const (
 // prepared returns a disk on whose region these operations were carried out, with foreign contents beside the region, and its journal. Something in the sector 0 is in the cache only.
 func prepared(t *testing.T, operations []operation) (*disk.Disk, *journal.Journal) {
 	t.Helper()
-	d := made(t, all, 16)
+	d := sample.Disk(all, 16)
 	for _, i := range []int{0, 1, 6} {
-		put(t, d, i, strings.Repeat("foreign", 2))
+		sample.Put(d, i, strings.Repeat("foreign", 2))
 	}
 	d.Sync()
 	j := opened(t, d, first, count)
@@ -55,14 +56,13 @@ func prepared(t *testing.T, operations []operation) (*disk.Disk, *journal.Journa
 			t.Fatalf("an operation before: %d", e)
 		}
 	}
-	put(t, d, 0, "cached")
+	sample.Put(d, 0, "cached")
 	return d, j
 }
 
 // beside returns the contents beside the region.
-func beside(t *testing.T, d *disk.Disk) string {
-	t.Helper()
-	return sectors(t, d, 0, first) + sectors(t, d, first+count, all-first-count)
+func beside(d *disk.Disk) string {
+	return sample.Sectors(d, 0, first) + sample.Sectors(d, first+count, all-first-count)
 }
 
 // cases are operations that are interrupted, behind others.
@@ -121,7 +121,7 @@ func (c *interrupted) tryAll(t *testing.T) bool {
 		if bits >= 1<<cached {
 			return e != api.OK
 		}
-		keep := flags(bits, cached)
+		keep := sample.Flags(bits, cached)
 		if e == api.OK {
 			is(t, "behind the operation", j, room, false, c.behind...)
 			d.Crash(keep)
@@ -139,7 +139,7 @@ func (c *interrupted) tryAll(t *testing.T) bool {
 			t.Fatalf("the case %d: a journal that is down writes", c.number)
 		}
 		list := c.before
-		if got, _ := holds(t, d, first, count); slices.Equal(got, c.behind) {
+		if got, _ := holds(d, first, count); slices.Equal(got, c.behind) {
 			list = c.behind
 		}
 		c.found(t, d, list)
@@ -161,14 +161,14 @@ func (c *interrupted) isDown(t *testing.T, j *journal.Journal) {
 // found checks that the region holds a list, and what is beside it, after a crash.
 func (c *interrupted) found(t *testing.T, d *disk.Disk, want []string) {
 	t.Helper()
-	got, ok := holds(t, d, first, count)
+	got, ok := holds(d, first, count)
 	if !ok || !slices.Equal(got, want) {
 		t.Fatalf("the case %d, failing after %d: %q, %t instead of %q", c.number, c.fail, got, ok, want)
 	}
 	is(t, "opened again", opened(t, d, first, count), room, false, want...)
 	c.foundBefore = c.foundBefore || slices.Equal(want, c.before)
 	c.foundBehind = c.foundBehind || slices.Equal(want, c.behind)
-	outside := beside(t, d)
+	outside := beside(d)
 	foreign := sectorText("foreignforeign") + sectorText("foreignforeign")
 	if outside != sectorText("foreignforeign")+foreign && outside != sectorText("cached")+foreign {
 		t.Fatalf("the case %d: beside the region there is %q", c.number, outside)
@@ -186,7 +186,7 @@ func TestSyncOfOthers(t *testing.T) {
 			t.Errorf("%d, %d cached", e, d.Cached())
 		}
 		d.Crash(nil)
-		if b := sectors(t, d, 0, 1); b != sectorText("cached") {
+		if b := sample.Sectors(d, 0, 1); b != sectorText("cached") {
 			t.Errorf("the sector 0 is %q", b)
 		}
 	}
@@ -233,15 +233,15 @@ func TestRandom(t *testing.T) {
 	source := rand.New(rand.NewSource(1))
 	for range 150 {
 		size, count := 16+source.Intn(20), 2+source.Intn(5)
-		d := made(t, count+3, size)
-		put(t, d, 0, "before")
-		put(t, d, count+1, "behind")
+		d := sample.Disk(count+3, size)
+		sample.Put(d, 0, "before")
+		sample.Put(d, count+1, "behind")
 		d.Sync()
-		outside := sectors(t, d, 0, 1) + sectors(t, d, count+1, 2)
+		outside := sample.Sectors(d, 0, 1) + sample.Sectors(d, count+1, 2)
 		s := state{j: opened(t, d, 1, count), d: d, count: count, room: (count - 1) * size}
 		for range 100 {
 			s.step(t, source)
-			if sectors(t, d, 0, 1)+sectors(t, d, count+1, 2) != outside {
+			if sample.Sectors(d, 0, 1)+sample.Sectors(d, count+1, 2) != outside {
 				t.Fatal("a sector outside of the region was written")
 			}
 		}
@@ -274,8 +274,8 @@ func (s *state) step(t *testing.T, source *rand.Rand) {
 		}
 	case e == api.ErrDown:
 		is(t, "interrupted", s.j, s.room, true, s.list...)
-		s.d.Crash(flags(source.Int(), s.d.Cached()))
-		if got, _ := holds(t, s.d, 1, s.count); !slices.Equal(got, s.list) && !slices.Equal(got, want) {
+		s.d.Crash(sample.Flags(source.Int(), s.d.Cached()))
+		if got, _ := holds(s.d, 1, s.count); !slices.Equal(got, s.list) && !slices.Equal(got, want) {
 			t.Fatalf("%v: %q instead of %q", o, got, s.list)
 		}
 		s.j = opened(t, s.d, 1, s.count)
@@ -286,9 +286,9 @@ func (s *state) step(t *testing.T, source *rand.Rand) {
 		s.list = want
 	}
 	if source.Intn(3) == 0 {
-		s.d.Crash(flags(source.Int(), s.d.Cached()))
+		s.d.Crash(sample.Flags(source.Int(), s.d.Cached()))
 	}
-	if got, ok := holds(t, s.d, 1, s.count); !ok || !slices.Equal(got, s.list) {
+	if got, ok := holds(s.d, 1, s.count); !ok || !slices.Equal(got, s.list) {
 		t.Fatalf("%v: the region holds %q, %t instead of %q", o, got, ok, s.list)
 	}
 	is(t, "after the step", s.j, s.room, false, s.list...)

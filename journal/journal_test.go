@@ -8,11 +8,12 @@ import (
 
 	"plexus/api"
 	"plexus/journal"
+	"plexus/sample"
 )
 
 // P26.2, P26.4 and P26.5: the examples.
 func TestExamples(t *testing.T) {
-	d := made(t, 3, 16)
+	d := sample.Disk(3, 16)
 	j := opened(t, d, 0, 3)
 	is(t, "a new journal", j, 32, false)
 	if j.Left() != 31 {
@@ -22,10 +23,10 @@ func TestExamples(t *testing.T) {
 		t.Errorf("Append: %d, %d left", e, j.Left())
 	}
 	is(t, "two records", j, 32, false, "ab", "")
-	if head := sectors(t, d, 0, 1); head != "\x07\x6a\x6f\x75\x72\x6e\x61\x6c\x04\x00\x00\x00\x00\x00\x00\x00" {
+	if head := sample.Sectors(d, 0, 1); head != "\x07\x6a\x6f\x75\x72\x6e\x61\x6c\x04\x00\x00\x00\x00\x00\x00\x00" {
 		t.Errorf("the head is %x", head)
 	}
-	if area := sectors(t, d, 1, 2); !strings.HasPrefix(area, "\x02\x61\x62\x00") {
+	if area := sample.Sectors(d, 1, 2); !strings.HasPrefix(area, "\x02\x61\x62\x00") {
 		t.Errorf("the area is %x", area)
 	}
 	if e := j.Reset(); e != api.OK || j.Left() != 31 {
@@ -39,7 +40,7 @@ func TestExamples(t *testing.T) {
 func TestAppend(t *testing.T) {
 	for count := 2; count < 5; count++ {
 		for start := range (count-1)*16 + 1 {
-			d := made(t, count+2, 16)
+			d := sample.Disk(count+2, 16)
 			j := opened(t, d, 1, count)
 			var want []string
 			for range start {
@@ -54,7 +55,7 @@ func TestAppend(t *testing.T) {
 					want = append(want, records...)
 				}
 				is(t, "appended", j, room, false, want...)
-				if got, ok := holds(t, d, 1, count); !ok || !slices.Equal(got, want) {
+				if got, ok := holds(d, 1, count); !ok || !slices.Equal(got, want) {
 					t.Fatalf("the region holds %q, %t instead of %q", got, ok, want)
 				}
 				is(t, "opened again", opened(t, d, 1, count), room, false, want...)
@@ -65,7 +66,7 @@ func TestAppend(t *testing.T) {
 
 // P26.2: an empty batch returns OK, also if nothing is left.
 func TestAppendNothing(t *testing.T) {
-	d := made(t, 2, 16)
+	d := sample.Disk(2, 16)
 	j := opened(t, d, 0, 2)
 	for _, records := range []string{"", "123456789012345"} {
 		if records != "" && j.Append(batch(records)) != api.OK {
@@ -85,7 +86,7 @@ func TestAppendNothing(t *testing.T) {
 
 // P26.2: a nil record is an empty one.
 func TestNilRecord(t *testing.T) {
-	d := made(t, 2, 16)
+	d := sample.Disk(2, 16)
 	j := opened(t, d, 0, 2)
 	if e := j.Append([][]byte{nil, {}, nil}); e != api.OK {
 		t.Errorf("Append: %d", e)
@@ -96,19 +97,19 @@ func TestNilRecord(t *testing.T) {
 
 // ErrFull: all records of a batch are appended, or none.
 func TestFull(t *testing.T) {
-	d := made(t, 4, 16)
+	d := sample.Disk(4, 16)
 	j := opened(t, d, 0, 4)
 	j.Append(batch("abc"))
 	for _, records := range [][]string{
 		{strings.Repeat("x", 44)}, {strings.Repeat("x", 43), ""}, {"", strings.Repeat("x", 43)}, slices.Repeat([]string{""}, 45),
 		{"a", "b", strings.Repeat("x", 1000)}, {strings.Repeat("x", 128)}, {"a", strings.Repeat("x", 1<<20), "b"},
 	} {
-		before := sectors(t, d, 0, 4)
+		before := sample.Sectors(d, 0, 4)
 		if e := j.Append(batch(records...)); e != api.ErrFull {
 			t.Errorf("Append of %d records: %d", len(records), e)
 		}
 		is(t, "full", j, 48, false, "abc")
-		if d.Cached() != 0 || sectors(t, d, 0, 4) != before {
+		if d.Cached() != 0 || sample.Sectors(d, 0, 4) != before {
 			t.Error("something was written")
 		}
 	}
@@ -131,7 +132,7 @@ func TestLeft(t *testing.T) {
 	for _, c := range []struct{ count, size int }{{2, 16}, {4, 17}, {3, 100}, {14, 16}} {
 		room := (c.count - 1) * c.size
 		for fill := range room + 1 {
-			d := made(t, c.count, c.size)
+			d := sample.Disk(c.count, c.size)
 			j := opened(t, d, 0, c.count)
 			if e := j.Append(slices.Repeat(batch(""), fill)); e != api.OK {
 				t.Fatalf("Append of %d empty records: %d", fill, e)
@@ -145,7 +146,7 @@ func TestLeft(t *testing.T) {
 func TestLeftOfMuch(t *testing.T) {
 	const room = 5 * 4096
 	for _, rest := range []int{0, 1, 2, 127, 128, 129, 130, 131, 16384, 16385, 16386, 16387, 16388} {
-		d := made(t, 6, 4096)
+		d := sample.Disk(6, 4096)
 		j := opened(t, d, 0, 6)
 		if e := j.Append(slices.Repeat(batch(""), room-rest)); e != api.OK {
 			t.Fatalf("Append: %d", e)
@@ -176,7 +177,7 @@ func left(t *testing.T, j *journal.Journal, free int) {
 
 // P26.4: neither arguments nor results share memory with the journal or with each other.
 func TestMemory(t *testing.T) {
-	d := made(t, 4, 16)
+	d := sample.Disk(4, 16)
 	j := opened(t, d, 0, 4)
 	room := append(make([]byte, 0, 64), "first"...)
 	records := [][]byte{room, []byte("second")}
@@ -209,7 +210,7 @@ func TestMemory(t *testing.T) {
 // P26.2: a region of as many sectors as a disk may have, and long records.
 func TestGreatRegion(t *testing.T) {
 	const count, size = 65536, 16
-	d := made(t, count, size)
+	d := sample.Disk(count, size)
 	j := opened(t, d, 0, count)
 	const room = (count - 1) * size
 	long := strings.Repeat("0123456789", room/10-1000)

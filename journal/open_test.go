@@ -10,12 +10,13 @@ import (
 
 	"plexus/api"
 	"plexus/journal"
+	"plexus/sample"
 )
 
 // Open: which regions a disk of four sectors has.
 func TestOpenRegion(t *testing.T) {
 	for _, down := range []bool{false, true} {
-		d := made(t, 4, 16)
+		d := sample.Disk(4, 16)
 		if down {
 			d.Fail(0)
 			d.Sync()
@@ -93,18 +94,18 @@ var regions = []struct {
 // P26.1: what Open finds in the regions.
 func TestOpen(t *testing.T) {
 	for _, c := range regions {
-		d := made(t, 4, 16)
-		put(t, d, 0, c.head)
-		put(t, d, 1, c.area[:min(16, len(c.area))])
-		put(t, d, 2, c.area[min(16, len(c.area)):])
-		put(t, d, 3, "\xff")
+		d := sample.Disk(4, 16)
+		sample.Put(d, 0, c.head)
+		sample.Put(d, 1, c.area[:min(16, len(c.area))])
+		sample.Put(d, 2, c.area[min(16, len(c.area)):])
+		sample.Put(d, 3, "\xff")
 		j, e := journal.Open(d, 0, 3)
 		if c.ok && e != api.OK || !c.ok && (e != api.ErrCorrupt || j != nil) {
 			t.Errorf("Open of the head %q and the area %q: %d", c.head, c.area, e)
 		} else if c.ok {
 			is(t, "opened", j, 32, false, c.want...)
 		}
-		if got, ok := holds(t, d, 0, 3); ok != c.ok || !slices.Equal(got, c.want) {
+		if got, ok := holds(d, 0, 3); ok != c.ok || !slices.Equal(got, c.want) {
 			t.Errorf("the definition, for the head %q and the area %q: %q, %t", c.head, c.area, got, ok)
 		}
 	}
@@ -113,16 +114,16 @@ func TestOpen(t *testing.T) {
 // P26.1: heads with numbers up to those that no int has.
 func TestOpenOfGreatNumbers(t *testing.T) {
 	for _, n := range []uint64{97, 1 << 31, 1 << 32, 1<<32 + 3, 1<<63 - 1, 1 << 63, 1<<63 + 3, math.MaxUint64} {
-		d := made(t, 4, 32)
-		put(t, d, 0, mark+string(binary.AppendUvarint(nil, n)))
+		d := sample.Disk(4, 32)
+		sample.Put(d, 0, mark+string(binary.AppendUvarint(nil, n)))
 		if j, e := journal.Open(d, 0, 4); e != api.ErrCorrupt || j != nil {
 			t.Errorf("Open of a stream of %d bytes: %d", n, e)
 		}
 	}
 	for _, record := range []uint64{95, 1 << 31, 1<<63 - 1, 1 << 63, math.MaxUint64} {
-		d := made(t, 4, 32)
-		put(t, d, 0, mark+"\x60")
-		put(t, d, 1, string(binary.AppendUvarint(nil, record)))
+		d := sample.Disk(4, 32)
+		sample.Put(d, 0, mark+"\x60")
+		sample.Put(d, 1, string(binary.AppendUvarint(nil, record)))
 		if j, e := journal.Open(d, 0, 4); (e == api.OK) != (record == 95) || (j != nil) != (record == 95) {
 			t.Errorf("Open with a record of %d bytes: %d", record, e)
 		}
@@ -141,19 +142,19 @@ func TestOpenRandom(t *testing.T) {
 	}
 	good := 0
 	for range 30000 {
-		d := made(t, 5, 16)
+		d := sample.Disk(5, 16)
 		head := mark + some(source.Intn(3), "\x00\x01\x02\x03\x04\x05\x06\x07\x08\x0f\x10\x11\x20\x21\x7f\x80\x81\xff")
 		if source.Intn(10) == 0 {
 			head = some(source.Intn(4), "\x00\x01\x07j") + head[source.Intn(len(head)):]
 		}
-		put(t, d, 1, head)
+		sample.Put(d, 1, head)
 		for i := 2; i < 5; i++ {
-			put(t, d, i, some(16, "\x00\x00\x00\x01\x01\x02\x03a\x80"))
+			sample.Put(d, i, some(16, "\x00\x00\x00\x01\x01\x02\x03a\x80"))
 		}
-		want, ok := holds(t, d, 1, 3)
+		want, ok := holds(d, 1, 3)
 		j, e := journal.Open(d, 1, 3)
 		if ok != (e == api.OK) || !ok && e != api.ErrCorrupt {
-			t.Fatalf("Open of %q: %d", sectors(t, d, 1, 3), e)
+			t.Fatalf("Open of %q: %d", sample.Sectors(d, 1, 3), e)
 		}
 		if ok {
 			good++
@@ -168,13 +169,13 @@ func TestOpenRandom(t *testing.T) {
 // P26.1: Open writes nothing, and needs no operation that a countdown counts.
 func TestOpenWritesNothing(t *testing.T) {
 	for _, head := range []string{"", mark + "\x03", mark + "\x04"} {
-		d := made(t, 4, 16)
-		put(t, d, 1, head)
-		put(t, d, 2, "\x02ab\xff")
-		before := sectors(t, d, 0, 4)
+		d := sample.Disk(4, 16)
+		sample.Put(d, 1, head)
+		sample.Put(d, 2, "\x02ab\xff")
+		before := sample.Sectors(d, 0, 4)
 		d.Fail(0)
 		j, e := journal.Open(d, 1, 3)
-		if d.Cached() != 2 || d.Down() || sectors(t, d, 0, 4) != before {
+		if d.Cached() != 2 || d.Down() || sample.Sectors(d, 0, 4) != before {
 			t.Errorf("the head %q: %d cached, down %t", head, d.Cached(), d.Down())
 		}
 		if e == api.OK {
@@ -191,10 +192,10 @@ func TestOpenWritesNothing(t *testing.T) {
 // P26.2: what was in the cache when the journal was opened is durable when Append or Reset return OK.
 func TestOpenOfCache(t *testing.T) {
 	for _, reset := range []bool{false, true} {
-		d := made(t, 4, 16)
-		put(t, d, 0, mark+"\x14")
-		put(t, d, 1, "\x13abcdefghijklmnopqrs")
-		put(t, d, 2, "pqrs")
+		d := sample.Disk(4, 16)
+		sample.Put(d, 0, mark+"\x14")
+		sample.Put(d, 1, "\x13abcdefghijklmnopqrs")
+		sample.Put(d, 2, "pqrs")
 		j := opened(t, d, 0, 4)
 		want := []string{"abcdefghijklmnopqrs", "second"}
 		e := j.Append(batch("second"))

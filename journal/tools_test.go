@@ -10,17 +10,8 @@ import (
 	"plexus/api"
 	"plexus/disk"
 	"plexus/journal"
+	"plexus/sample"
 )
-
-// made returns a new disk.
-func made(t *testing.T, sectors, size int) *disk.Disk {
-	t.Helper()
-	d, e := disk.New(sectors, size)
-	if e != api.OK {
-		t.Fatalf("New(%d, %d): %d", sectors, size, e)
-	}
-	return d
-}
 
 // opened opens a journal.
 func opened(t *testing.T, d *disk.Disk, first, count int) *journal.Journal {
@@ -95,9 +86,8 @@ func number(b []byte) (uint64, []byte, bool) {
 }
 
 // holds returns the list that a region holds, read by the definition of the chapter, or false if it holds none.
-func holds(t *testing.T, d *disk.Disk, first, count int) ([]string, bool) {
-	t.Helper()
-	head := sectors(t, d, first, 1)
+func holds(d *disk.Disk, first, count int) ([]string, bool) {
+	head := sample.Sectors(d, first, 1)
 	if strings.Trim(head, "\x00") == "" {
 		return nil, true
 	}
@@ -106,7 +96,7 @@ func holds(t *testing.T, d *disk.Disk, first, count int) ([]string, bool) {
 	if !ok || !good || len(bytes.Trim(zeros, "\x00")) != 0 {
 		return nil, false
 	}
-	area := sectors(t, d, first+1, count-1)
+	area := sample.Sectors(d, first+1, count-1)
 	if n > uint64(len(area)) {
 		return nil, false
 	}
@@ -120,37 +110,4 @@ func holds(t *testing.T, d *disk.Disk, first, count int) ([]string, bool) {
 		b = behind[length:]
 	}
 	return list, true
-}
-
-// sectors returns the contents of some sectors.
-func sectors(t *testing.T, d *disk.Disk, first, count int) string {
-	t.Helper()
-	var s strings.Builder
-	for i := range count {
-		b, e := d.Read(first + i)
-		if e != api.OK {
-			t.Fatalf("Read of the sector %d: %d", first+i, e)
-		}
-		s.Write(b)
-	}
-	return s.String()
-}
-
-// put writes a sector that begins with these bytes, and zeros behind them.
-func put(t *testing.T, d *disk.Disk, sector int, begin string) {
-	t.Helper()
-	b := make([]byte, d.Size())
-	copy(b, begin)
-	if e := d.Write(sector, b); e != api.OK {
-		t.Fatalf("Write of the sector %d: %d", sector, e)
-	}
-}
-
-// flags returns a list of n bools: the bits of a number, the lowest first.
-func flags(bits, n int) []bool {
-	list := make([]bool, n)
-	for i := range list {
-		list[i] = bits>>i&1 == 1
-	}
-	return list
 }

@@ -3,6 +3,8 @@ package sample_test
 import (
 	"fmt"
 	"math/rand"
+	"reflect"
+	"strings"
 	"testing"
 
 	"plexus/api"
@@ -101,7 +103,7 @@ func TestSeparate(t *testing.T) {
 		x := api.Expr{Type: sample.Of(sample.MapOf(api.Lattice{Kind: api.Set}, "a")), Kids: []api.Expr{{}}}
 		f := api.Function{Params: []api.Param{{Name: "a"}}, Body: x}
 		o := api.Object{Name: "o", Lattice: sample.Words(api.Set, "a")}
-		return []any{l, v, d, x, f, "text", []string{"a"}, []api.Object{o}, api.Type{Lattice: sample.Words(api.Flat, "a")}, []api.Datum{d}, api.Node{Kids: []api.Node{{}}}, []api.Param{{Name: "a"}}, api.Program{Objects: []api.Object{o}, Updates: []api.Function{f}}, api.Program{Queries: []api.Function{f}}}
+		return []any{l, v, d, x, f, "text", []string{"a"}, []api.Object{o}, api.Type{Lattice: sample.Words(api.Flat, "a")}, []api.Datum{d}, api.Node{Kids: []api.Node{{}}}, []api.Param{{Name: "a"}}, api.Program{Objects: []api.Object{o}, Updates: []api.Function{f}}, api.Program{Queries: []api.Function{f}}, []byte("a"), sample.AnyMessage(rand.New(rand.NewSource(1)).Intn)}
 	}
 	shared := 0
 	for i := range fresh() {
@@ -118,6 +120,60 @@ func TestSeparate(t *testing.T) {
 	list := []string{"a", "b"}
 	if sample.Separate(list[:1], list[1:]) || !sample.Separate(list[:1:1], list[1:]) || sample.Separate(1) || sample.Separate(sample.Product(api.Lattice{Names: list}, api.Lattice{Names: list})) {
 		t.Error("parts of a list")
+	}
+}
+
+// lists returns the slices in a value.
+func lists(v reflect.Value) []reflect.Value {
+	var list []reflect.Value
+	switch v.Kind() {
+	case reflect.Struct:
+		for i := range v.NumField() {
+			list = append(list, lists(v.Field(i))...)
+		}
+	case reflect.Slice:
+		list = append(list, v)
+		for i := range v.Len() {
+			list = append(list, lists(v.Index(i))...)
+		}
+	}
+	return list
+}
+
+// TestMessages checks that random messages have something in all lists, and that memory that is shared is found in each of them.
+func TestMessages(t *testing.T) {
+	for seed := range int64(20) {
+		fresh := func() *api.Message {
+			m := sample.AnyMessage(rand.New(rand.NewSource(seed)).Intn)
+			return &m
+		}
+		m := fresh()
+		for i, list := range lists(reflect.ValueOf(m).Elem()) {
+			if list.Len() == 0 {
+				t.Errorf("the list %d of %+v is empty", i, m)
+			}
+			other := fresh()
+			if !sample.Separate(*m, *other) {
+				t.Fatal("two messages share memory")
+			}
+			lists(reflect.ValueOf(other).Elem())[i].Set(list)
+			if sample.Separate(*m, *other) {
+				t.Errorf("memory that is shared is not found in the list %d of %+v", i, m)
+			}
+		}
+	}
+}
+
+// TestDisks checks what is written to a disk and read from it.
+func TestDisks(t *testing.T) {
+	d := sample.Disk(3, 16)
+	sample.Put(d, 1, "ab")
+	zeros := strings.Repeat("\x00", 14)
+	if got := sample.Sectors(d, 1, 2); got != "ab"+zeros+zeros+"\x00\x00" || sample.Sectors(d, 3, 1) != "" || d.Cached() != 1 {
+		t.Errorf("%q", got)
+	}
+	if list := fmt.Sprint(sample.Flags(6, 4), sample.Flags(7, 2), sample.Flags(1, 0)); list != "[false true true false] [true true] []" {
+		t.Error(list)
 	}
 }
 

@@ -23,6 +23,8 @@ type places struct {
 func (p *places) add(v any) bool {
 	switch v := v.(type) {
 	case string:
+	case []byte:
+		addAll(p, v, func(byte) {})
 	case []string:
 		addAll(p, v, func(string) {})
 	case api.Lattice:
@@ -49,6 +51,8 @@ func (p *places) add(v any) bool {
 		p.add(v.Objects)
 		addAll(p, v.Updates, p.addFunction)
 		addAll(p, v.Queries, p.addFunction)
+	case api.Message:
+		p.addMessage(v)
 	default:
 		return false
 	}
@@ -85,6 +89,63 @@ func (p *places) addExpr(x api.Expr) {
 func (p *places) addFunction(f api.Function) {
 	p.add(f.Params)
 	p.addExpr(f.Body)
+}
+
+// addMessage adds the places of a message.
+func (p *places) addMessage(m api.Message) {
+	addAll(p, m.Reads, p.addRead)
+	addAll(p, m.Base, p.addBase)
+	addAll(p, m.State, p.addCommand)
+	addAll(p, m.Acks, p.addAck)
+	addAll(p, m.Proof, p.addProof)
+	addAll(p, m.Digests, p.addDigest)
+	p.add(m.Objects)
+	addAll(p, m.Items, p.addItem)
+}
+
+// addRead adds the places of the identity of a read.
+func (p *places) addRead(r api.ReadID) { p.add(r.Tag) }
+
+// addCommand adds the places of a command.
+func (p *places) addCommand(c api.Command) {
+	addAll(p, c.Writes, func(w api.Write) { p.add(w.Delta) })
+	p.add(c.Tag)
+}
+
+// addAck adds the places of a signature.
+func (p *places) addAck(a api.Ack) { p.add(a.Tag) }
+
+// addCertificate adds the places of a certificate.
+func (p *places) addCertificate(c api.Certificate) {
+	addAll(p, c.Claim.Reads, p.addRead)
+	addAll(p, c.Claim.Base, p.addCommand)
+	addAll(p, c.Claim.Conf, p.addCommand)
+	p.add(c.Claim.Root)
+	addAll(p, c.Acks, p.addAck)
+}
+
+// addBase adds the places of a base.
+func (p *places) addBase(b api.Base) {
+	addAll(p, b.Steps, p.addCertificate)
+	addAll(p, b.Taken, p.addCommand)
+}
+
+// addProof adds the places of a proof.
+func (p *places) addProof(x api.Proof) {
+	addAll(p, x.Steps, p.addCertificate)
+	p.addCertificate(x.Last)
+}
+
+// addItem adds the places of an entry of an authenticated map.
+func (p *places) addItem(i api.Item) {
+	p.add(i.Content)
+	addAll(p, i.Path, func(b []byte) { p.add(b) })
+}
+
+// addDigest adds the places of a digest.
+func (p *places) addDigest(d api.Digest) {
+	p.add(d.Prefix)
+	p.add(d.Sum)
 }
 
 // addAll adds the places of a slice and of its elements.
