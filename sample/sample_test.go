@@ -103,7 +103,7 @@ func TestSeparate(t *testing.T) {
 		x := api.Expr{Type: sample.Of(sample.MapOf(api.Lattice{Kind: api.Set}, "a")), Kids: []api.Expr{{}}}
 		f := api.Function{Params: []api.Param{{Name: "a"}}, Body: x}
 		o := api.Object{Name: "o", Lattice: sample.Words(api.Set, "a")}
-		return []any{l, v, d, x, f, "text", []string{"a"}, []api.Object{o}, api.Type{Lattice: sample.Words(api.Flat, "a")}, []api.Datum{d}, api.Node{Kids: []api.Node{{}}}, []api.Param{{Name: "a"}}, api.Program{Objects: []api.Object{o}, Updates: []api.Function{f}}, api.Program{Queries: []api.Function{f}}, []byte("a"), sample.AnyMessage(rand.New(rand.NewSource(1)).Intn)}
+		return []any{l, v, d, x, f, "text", []string{"a"}, []api.Object{o}, api.Type{Lattice: sample.Words(api.Flat, "a")}, []api.Datum{d}, api.Node{Kids: []api.Node{{}}}, []api.Param{{Name: "a"}}, api.Program{Objects: []api.Object{o}, Updates: []api.Function{f}}, api.Program{Queries: []api.Function{f}}, []byte("a"), sample.AnyMessage(rand.New(rand.NewSource(1)).Intn), [][]int{{1}}, [][2]int{{1, 2}}, [][]api.Event{{{Uses: []int{1}}}}}
 	}
 	shared := 0
 	for i := range fresh() {

@@ -53,6 +53,16 @@ func (p *places) add(v any) bool {
 		addAll(p, v.Queries, p.addFunction)
 	case api.Message:
 		p.addMessage(v)
+	case []int:
+		addAll(p, v, func(int) {})
+	case [][]int:
+		addAll(p, v, func(list []int) { p.add(list) })
+	case [][2]int:
+		addAll(p, v, func([2]int) {})
+	case []api.Event:
+		addAll(p, v, func(e api.Event) { p.add(e.Uses) })
+	case [][]api.Event:
+		addAll(p, v, func(t []api.Event) { p.add(t) })
 	default:
 		return false
 	}
