@@ -103,7 +103,7 @@ func TestSeparate(t *testing.T) {
 		x := api.Expr{Type: sample.Of(sample.MapOf(api.Lattice{Kind: api.Set}, "a")), Kids: []api.Expr{{}}}
 		f := api.Function{Params: []api.Param{{Name: "a"}}, Body: x}
 		o := api.Object{Name: "o", Lattice: sample.Words(api.Set, "a")}
-		return []any{l, v, d, x, f, "text", []string{"a"}, []api.Object{o}, api.Type{Lattice: sample.Words(api.Flat, "a")}, []api.Datum{d}, api.Node{Kids: []api.Node{{}}}, []api.Param{{Name: "a"}}, api.Program{Objects: []api.Object{o}, Updates: []api.Function{f}}, api.Program{Queries: []api.Function{f}}, []byte("a"), sample.AnyMessage(rand.New(rand.NewSource(1)).Intn), [][]int{{1}}, [][2]int{{1, 2}}, [][]api.Event{{{Uses: []int{1}}}}}
+		return []any{l, v, d, x, f, "text", []string{"a"}, []api.Object{o}, api.Type{Lattice: sample.Words(api.Flat, "a")}, []api.Datum{d}, api.Node{Kids: []api.Node{{}}}, []api.Param{{Name: "a"}}, api.Program{Objects: []api.Object{o}, Updates: []api.Function{f}}, api.Program{Queries: []api.Function{f}}, []byte("a"), sample.AnyMessage(rand.New(rand.NewSource(1)).Intn), [][]int{{1}}, [][2]int{{1, 2}}, [][]api.Event{{{Uses: []int{1}}}}, api.Packet{Payload: []byte("a")}, []api.Packet{{Payload: []byte("a")}}, []api.Delivery{{Payload: []byte("a")}}}
 	}
 	shared := 0
 	for i := range fresh() {
@@ -118,6 +118,10 @@ func TestSeparate(t *testing.T) {
 		t.Errorf("shared memory is found in %d values", shared)
 	}
 	list := []string{"a", "b"}
+	b := []byte("a")
+	if sample.Separate([]api.Packet{{Payload: b}, {Payload: b}}) || sample.Separate([]api.Delivery{{Payload: b}}, api.Packet{Payload: b}) {
+		t.Error("payloads")
+	}
 	if sample.Separate(list[:1], list[1:]) || !sample.Separate(list[:1:1], list[1:]) || sample.Separate(1) || sample.Separate(sample.Product(api.Lattice{Names: list}, api.Lattice{Names: list})) {
 		t.Error("parts of a list")
 	}

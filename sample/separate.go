@@ -53,6 +53,12 @@ func (p *places) add(v any) bool {
 		addAll(p, v.Queries, p.addFunction)
 	case api.Message:
 		p.addMessage(v)
+	case api.Packet:
+		p.add(v.Payload)
+	case []api.Packet:
+		addAll(p, v, func(m api.Packet) { p.add(m) })
+	case []api.Delivery:
+		addAll(p, v, func(d api.Delivery) { p.add(d.Payload) })
 	case []int:
 		addAll(p, v, func(int) {})
 	case [][]int:
